@@ -1,0 +1,150 @@
+package wal
+
+import (
+	"pergola/api"
+	"pergola/frame"
+)
+
+/*
+A log lies on its sectors so: the first one is the head, the others are a ring, in which each record has sectors of its own, one behind the other.
+
+A crash leaves of each half of a sector what it was, or what was written: so each half has a check sum of its own, and a half that is neither sound nor noughts was not left by this package. The halves of a batch (the records of one Append) have a tag in common, the check sum of all of the batch: halves of two batches that got mixed are told by it.
+*/
+
+const (
+	half     = api.Sector / 2
+	word     = 4 // bytes of a check sum
+	body     = half - word
+	leftLen  = 14 // bytes of a record in the left half
+	rightLen = 22 // and in the right one
+	partLen  = leftLen + rightLen
+)
+
+// label says of which piece of a batch a sector is.
+type label struct {
+	tag    uint32
+	index  int // of the record in its batch
+	part   int // of the sector in its record
+	count  int // records of the batch
+	number int // of the record
+	size   int // bytes of the record
+}
+
+// parts is how many sectors a record of size bytes has.
+func parts(size int) int { return max(1, (size+partLen-1)/partLen) }
+
+// appendInt lays the lowest n bytes of v, the least first.
+func appendInt(b []byte, v, n int) []byte {
+	for range n {
+		b = append(b, byte(v))
+		v >>= 8
+	}
+	return b
+}
+
+// takeInt is the number of n bytes that b begins with, and what is behind it.
+func takeInt(b []byte, n int) (v int, rest []byte) {
+	for i, c := range b[:n] {
+		v |= int(c) << (8 * i)
+	}
+	return v, b[n:]
+}
+
+// seal is a half with its check sum ahead; b has no more than there is room for.
+func seal(b []byte) []byte {
+	full := append(make([]byte, 0, body), b...)[:body]
+	return append(frame.AppendWord(nil, frame.Sum(full)), full...)
+}
+
+// open is what is in a half behind its check sum, and whether that is right; nil of noughts, which are right too.
+func open(h []byte) (b []byte, sound bool) {
+	switch {
+	case blank(h):
+		return nil, true
+	case frame.Word(h) != frame.Sum(h[word:]):
+		return nil, false
+	}
+	return h[word:], true
+}
+
+func blank(b []byte) bool {
+	for _, c := range b {
+		if c != 0 {
+			return false
+		}
+	}
+	return true
+}
+
+// lay is a sector with a piece of a record, at most partLen bytes.
+func lay(l label, piece []byte) []byte {
+	left := frame.AppendWord(nil, l.tag)
+	left = append(left, byte(l.index), byte(l.part))
+	right := append([]byte(nil), left...)
+	left = append(left, byte(l.count))
+	left = appendInt(left, l.number, 5)
+	left = appendInt(left, l.size, 2)
+	split := min(len(piece), leftLen)
+	left = append(left, piece[:split]...)
+	right = append(right, piece[split:]...)
+	return append(seal(left), seal(right)...)
+}
+
+// sector is what a sector of the ring is.
+type sector struct {
+	named bool // its left half has a label
+	label label
+	whole bool // its right half goes with it
+	piece []byte
+}
+
+// read is what s, a sector of the ring, is; false, if it was not left by this package.
+func read(s []byte) (sector, bool) {
+	left, ok := open(s[:half])
+	right, too := open(s[half:])
+	if !ok || !too || left == nil {
+		return sector{}, ok && too
+	}
+	l := label{tag: frame.Word(left), index: int(left[4]), part: int(left[5]), count: int(left[6])}
+	rest := left[7:]
+	l.number, rest = takeInt(rest, 5)
+	l.size, rest = takeInt(rest, 2)
+	piece := append(append([]byte(nil), rest[:leftLen]...), make([]byte, rightLen)...)
+	whole := false
+	if right != nil && string(right[:6]) == string(left[:6]) {
+		whole = true
+		copy(piece[leftLen:], right[6:])
+	}
+	return sector{named: true, label: l, whole: whole, piece: piece}, true
+}
+
+// head says where the log begins.
+type head struct {
+	first  int // number of its first record
+	at     int // where in the ring that is
+	length int // how many records there were, when this was written
+}
+
+// layHead fills the left half alone: so a head is never torn.
+func layHead(h head) []byte {
+	b := appendInt(nil, h.first, 8)
+	b = appendInt(b, h.at, 4)
+	b = appendInt(b, h.length, 8)
+	return append(seal(b), make([]byte, half)...)
+}
+
+// readHead is the head of a ring; noughts are that of a log that was never trimmed.
+func readHead(s []byte, ring int) (head, bool) {
+	b, sound := open(s[:half])
+	if !sound || !blank(s[half:]) {
+		return head{}, false
+	}
+	if b == nil {
+		return head{}, true
+	}
+	h := head{}
+	h.first, b = takeInt(b, 8)
+	h.at, b = takeInt(b, 4)
+	h.length, b = takeInt(b, 8)
+	return h, blank(b) && h.first >= 0 && h.first <= h.length && h.at < ring
+}
