@@ -136,3 +136,29 @@ func TestP9_2ScanAndP9_3(t *testing.T) {
 		t.Errorf("Scan of nothing: %v, %d, %v", got, at, e)
 	}
 }
+
+func TestSeals(t *testing.T) {
+	for _, p := range []string{"", "a", "0123456789abcdefghijklmnopqr"} {
+		s := Seal([]byte(p), 32)
+		b, sound := Unseal(s)
+		if len(s) != 32 || !sound || len(b) != 28 || string(bytes.TrimRight(b, "\x00")) != p || Blank(s) {
+			t.Errorf("Seal(%s) = %x", p, s)
+		}
+		for bit := range 256 {
+			c := bytes.Clone(s)
+			c[bit/8] ^= 1 << (bit % 8)
+			if b, sound := Unseal(c); sound || b != nil {
+				t.Errorf("bit %d turned", bit)
+			}
+		}
+	}
+	if b, sound := Unseal(make([]byte, 32)); b != nil || !sound || !Blank(nil) || Blank([]byte{0, 1}) {
+		t.Error("noughts are sound")
+	}
+	for _, v := range []int{0, 1, 255, 1<<40 - 2} {
+		got, rest := TakeInt(append(AppendInt(nil, v, 5), 9), 5)
+		if got != v || len(rest) != 1 {
+			t.Errorf("TakeInt of %d: %d", v, got)
+		}
+	}
+}

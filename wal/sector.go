@@ -13,8 +13,6 @@ A crash leaves of each half of a sector what it was, or what was written: so eac
 
 const (
 	half     = api.Sector / 2
-	word     = 4 // bytes of a check sum
-	body     = half - word
 	leftLen  = 14 // bytes of a record in the left half
 	rightLen = 22 // and in the right one
 	partLen  = leftLen + rightLen
@@ -33,61 +31,18 @@ type label struct {
 // parts is how many sectors a record of size bytes has.
 func parts(size int) int { return max(1, (size+partLen-1)/partLen) }
 
-// appendInt lays the lowest n bytes of v, the least first.
-func appendInt(b []byte, v, n int) []byte {
-	for range n {
-		b = append(b, byte(v))
-		v >>= 8
-	}
-	return b
-}
-
-// takeInt is the number of n bytes that b begins with, and what is behind it.
-func takeInt(b []byte, n int) (v int, rest []byte) {
-	for i, c := range b[:n] {
-		v |= int(c) << (8 * i)
-	}
-	return v, b[n:]
-}
-
-// seal is a half with its check sum ahead; b has no more than there is room for.
-func seal(b []byte) []byte {
-	full := append(make([]byte, 0, body), b...)[:body]
-	return append(frame.AppendWord(nil, frame.Sum(full)), full...)
-}
-
-// open is what is in a half behind its check sum, and whether that is right; nil of noughts, which are right too.
-func open(h []byte) (b []byte, sound bool) {
-	switch {
-	case blank(h):
-		return nil, true
-	case frame.Word(h) != frame.Sum(h[word:]):
-		return nil, false
-	}
-	return h[word:], true
-}
-
-func blank(b []byte) bool {
-	for _, c := range b {
-		if c != 0 {
-			return false
-		}
-	}
-	return true
-}
-
 // lay is a sector with a piece of a record, at most partLen bytes.
 func lay(l label, piece []byte) []byte {
 	left := frame.AppendWord(nil, l.tag)
 	left = append(left, byte(l.index), byte(l.part))
 	right := append([]byte(nil), left...)
 	left = append(left, byte(l.count))
-	left = appendInt(left, l.number, 5)
-	left = appendInt(left, l.size, 2)
+	left = frame.AppendInt(left, l.number, 5)
+	left = frame.AppendInt(left, l.size, 2)
 	split := min(len(piece), leftLen)
 	left = append(left, piece[:split]...)
 	right = append(right, piece[split:]...)
-	return append(seal(left), seal(right)...)
+	return append(frame.Seal(left, half), frame.Seal(right, half)...)
 }
 
 // sector is what a sector of the ring is.
@@ -100,15 +55,15 @@ type sector struct {
 
 // read is what s, a sector of the ring, is; false, if it was not left by this package.
 func read(s []byte) (sector, bool) {
-	left, ok := open(s[:half])
-	right, too := open(s[half:])
+	left, ok := frame.Unseal(s[:half])
+	right, too := frame.Unseal(s[half:])
 	if !ok || !too || left == nil {
 		return sector{}, ok && too
 	}
 	l := label{tag: frame.Word(left), index: int(left[4]), part: int(left[5]), count: int(left[6])}
 	rest := left[7:]
-	l.number, rest = takeInt(rest, 5)
-	l.size, rest = takeInt(rest, 2)
+	l.number, rest = frame.TakeInt(rest, 5)
+	l.size, rest = frame.TakeInt(rest, 2)
 	piece := append(append([]byte(nil), rest[:leftLen]...), make([]byte, rightLen)...)
 	whole := false
 	if right != nil && string(right[:6]) == string(left[:6]) {
@@ -127,24 +82,24 @@ type head struct {
 
 // layHead fills the left half alone: so a head is never torn.
 func layHead(h head) []byte {
-	b := appendInt(nil, h.first, 8)
-	b = appendInt(b, h.at, 4)
-	b = appendInt(b, h.length, 8)
-	return append(seal(b), make([]byte, half)...)
+	b := frame.AppendInt(nil, h.first, 8)
+	b = frame.AppendInt(b, h.at, 4)
+	b = frame.AppendInt(b, h.length, 8)
+	return append(frame.Seal(b, half), make([]byte, half)...)
 }
 
 // readHead is the head of a ring; noughts are that of a log that was never trimmed.
 func readHead(s []byte, ring int) (head, bool) {
-	b, sound := open(s[:half])
-	if !sound || !blank(s[half:]) {
+	b, sound := frame.Unseal(s[:half])
+	if !sound || !frame.Blank(s[half:]) {
 		return head{}, false
 	}
 	if b == nil {
 		return head{}, true
 	}
 	h := head{}
-	h.first, b = takeInt(b, 8)
-	h.at, b = takeInt(b, 4)
-	h.length, b = takeInt(b, 8)
-	return h, blank(b) && h.first >= 0 && h.first <= h.length && h.at < ring
+	h.first, b = frame.TakeInt(b, 8)
+	h.at, b = frame.TakeInt(b, 4)
+	h.length, b = frame.TakeInt(b, 8)
+	return h, frame.Blank(b) && h.first >= 0 && h.first <= h.length && h.at < ring
 }
