@@ -13,6 +13,7 @@ import (
 	"pergola/api"
 	"pergola/disk"
 	"pergola/enc"
+	"pergola/frame"
 	"pergola/rel"
 )
 
@@ -533,5 +534,39 @@ func TestErrorsAreWrapped(t *testing.T) {
 	var f *api.Fault
 	if inner := errors.Unwrap(e); !errors.As(inner, &f) || f.Op != "change" || !errors.Is(e, api.ErrVerts) {
 		t.Error(fmt.Sprint(e))
+	}
+}
+
+// Sectors whose sums are right, but that make no sense: no call panics.
+func TestSealedNonsense(t *testing.T) {
+	for seed := range int64(800) {
+		r := rand.New(rand.NewSource(seed))
+		d := newDisk(t, 512)
+		for v := opened(t, d); seed%2 == 0 && r.Intn(4) > 0; {
+			v.Commit(adds(r.Intn(9), someObject(r)))
+			if r.Intn(3) == 0 {
+				v.Checkpoint()
+			}
+		}
+		for range r.Intn(40) {
+			at, s := []int{0, 1, 148, 295, 296, 297, r.Intn(512)}[r.Intn(7)], []byte{}
+			for range 2 {
+				b := make([]byte, payload)
+				for i := range b[:r.Intn(payload)] {
+					b[i] = byte(r.Intn(3) * r.Intn(1+r.Intn(128)))
+				}
+				if s = append(s, frame.Seal(b, half)...); r.Intn(3) == 0 {
+					clear(s[len(s)-half:])
+				}
+			}
+			d.Write(at, s)
+		}
+		v, e := Open(d)
+		if e != nil && !isFault(e, 0, api.ErrBad) {
+			t.Fatal(e)
+		}
+		v.Items()
+		v.Commit(adds(1000, point(1, 1)))
+		v.Checkpoint()
 	}
 }
