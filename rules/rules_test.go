@@ -8,6 +8,7 @@ import (
 	"go/token"
 	"os"
 	"path/filepath"
+	"slices"
 	"strings"
 	"testing"
 )
@@ -16,23 +17,28 @@ const library = " bytes cmp container/heap errors iter maps math math/bits slice
 
 const longest = 60 // lines of a function
 
+// layers is the packages of the map, the lowest first: each may call those ahead of it alone.
+const layers = "api wide ratio plane segm ring rel fault enc frame disk slots pool wal vault heap opclass gist scan curve sorter hull join model stage index db replay audit script shell"
+
 // sources calls do for each source file of the program that is no test.
 func sources(t *testing.T, do func(fset *token.FileSet, name string, f *ast.File)) {
 	t.Helper()
-	names, err := filepath.Glob("../*/*.go")
-	if err != nil || len(names) == 0 {
-		t.Fatal("no sources: ", err)
-	}
-	for _, name := range names {
-		if strings.HasSuffix(name, "_test.go") || strings.HasPrefix(name, "../sharedtests/") {
-			continue
+	for _, layer := range strings.Fields(layers) {
+		names, err := filepath.Glob("../" + layer + "/*.go")
+		if err != nil || len(names) == 0 {
+			t.Fatal("no sources of ", layer, ": ", err)
 		}
-		fset := token.NewFileSet()
-		f, err := parser.ParseFile(fset, name, nil, parser.ParseComments)
-		if err != nil {
-			t.Fatal(err)
+		for _, name := range names {
+			if strings.HasSuffix(name, "_test.go") {
+				continue
+			}
+			fset := token.NewFileSet()
+			f, err := parser.ParseFile(fset, name, nil, parser.ParseComments)
+			if err != nil {
+				t.Fatal(err)
+			}
+			do(fset, name, f)
 		}
-		do(fset, name, f)
 	}
 }
 
@@ -54,15 +60,13 @@ func TestImports(t *testing.T) {
 	})
 }
 
-// layers is the packages of the map, the lowest first: each may call those ahead of it alone.
-const layers = " api wide ratio plane segm ring rel fault enc frame disk slots pool wal vault heap opclass gist scan curve sorter hull join model stage index db replay audit script shell "
-
 func TestLayers(t *testing.T) {
+	place := func(name string) int { return slices.Index(strings.Fields(layers), name) }
 	sources(t, func(fset *token.FileSet, name string, f *ast.File) {
-		own := strings.Index(layers, " "+filepath.Base(filepath.Dir(name))+" ")
+		own := place(filepath.Base(filepath.Dir(name)))
 		for _, i := range f.Imports {
-			path := strings.Trim(i.Path.Value, `"`)
-			if below := strings.Index(layers, " "+strings.TrimPrefix(path, "pergola/")+" "); below >= own && own >= 0 {
+			path, isOurs := strings.CutPrefix(strings.Trim(i.Path.Value, `"`), "pergola/")
+			if below := place(path); isOurs && (below < 0 || below >= own) {
 				t.Errorf("%s imports %s", name, path)
 			}
 		}
